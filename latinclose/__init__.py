@@ -1,0 +1,1 @@
+"""Squares of things: begun, closed, renamed, cut, laid over one another."""
