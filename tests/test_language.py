@@ -138,6 +138,17 @@ class TheLanguage(unittest.TestCase):
                 if isinstance(node, ast.Name) and node.id in python_names:
                     self.assertIn(node.id, OWN_NAMES)
 
+    def test_no_parameter_and_no_local_is_called_like_a_class_or_an_import(self):
+        for path, tree in self.trees():
+            taken = {node.name for node in tree.body if isinstance(node, ast.ClassDef)}
+            for node in tree.body:
+                if isinstance(node, ast.ImportFrom):
+                    taken |= {alias.name for alias in node.names}
+            for node in ast.walk(tree):
+                if isinstance(node, ast.FunctionDef):
+                    for name in bound_names(node):
+                        self.assertNotIn(name, taken)
+
     def test_methods(self):
         own = self.own_methods()
         for path, tree in self.trees():
