@@ -192,6 +192,37 @@ def begun_squares():
     return small_begun_squares() + greater_begun_squares()
 
 
+# The turns of three things, one behind another: a table of six in which the order makes a difference.
+TURNS_OF_THREE = tuple(itertools.permutations(range(3)))
+TABLE_OF_TURNS = tuple(
+    tuple(TURNS_OF_THREE.index(tuple(other[number] for number in one)) for other in TURNS_OF_THREE)
+    for one in TURNS_OF_THREE
+)
+
+# Of size 6, with parts of three rows but none of two.
+WITHOUT_PARTS_OF_TWO = (
+    (2, 5, 3, 4, 0, 1), (5, 4, 0, 2, 1, 3), (0, 3, 2, 1, 4, 5), (1, 0, 5, 3, 2, 4), (4, 2, 1, 5, 3, 0),
+    (3, 1, 4, 0, 5, 2),
+)
+
+
+def paired_table(size):
+    """Of a size of 2, 4 or 8, a table with as many parts of two rows as can be."""
+    return tuple(tuple(row ^ column for column in range(size)) for row in range(size))
+
+
+@functools.cache
+def squares():
+    """Squares of the sizes 1 to 6: small ones, tables, and ones that are built at a venture."""
+    numbers = Numbers(11)
+    found = list(all_squares(1) + all_squares(2) + all_squares(3) + all_squares(4)[::37])
+    found += [paired_table(4), TABLE_OF_TURNS, WITHOUT_PARTS_OF_TWO]
+    for size in range(4, 7):
+        found.append(cyclic(size))
+        found += [numbers.square(size) for turn in range(12)]
+    return tuple(found)
+
+
 def plain_choices(begun):
     """All choices with what is left for each, by a plain look through all cells, rows and columns."""
     size = len(begun)
