@@ -267,3 +267,144 @@ def plain_way(begun):
             return looked_at, told
         cases.append((number, told[1]))
     return looked_at, ("cases", (choice, cases))
+
+
+def turns(size):
+    return list(itertools.permutations(range(size)))
+
+
+def all_renamings(size):
+    return list(itertools.product(turns(size), repeat=3))
+
+
+def some_renamings(size, many, state):
+    numbers = Numbers(state)
+    return [tuple(tuple(numbers.mixed(range(size))) for part in range(3)) for turn in range(many)]
+
+
+def is_renaming(told, size):
+    """Whether it is a tuple of three turns, each a tuple of whole numbers that are no truths."""
+    if told.__class__ is not tuple or len(told) != 3 or not all(turn.__class__ is tuple for turn in told):
+        return False
+    numbers = [number for turn in told for number in turn]
+    return all(number.__class__ is int for number in numbers) and all(sorted(t) == list(range(size)) for t in told)
+
+
+def plain_renamed(begun, renaming):
+    """Cell by cell, each entry set where the renaming sends it."""
+    rows, columns, things = renaming
+    told = [[None] * len(begun) for row in begun]
+    for row, column in cells_of(len(begun)):
+        thing = begun[row][column]
+        told[rows[row]][columns[column]] = None if thing is None else things[thing]
+    return tuple(tuple(line) for line in told)
+
+
+def plain_turned(square, roles):
+    """Each entry by itself put where the roles send it."""
+    told = {}
+    for row, column in cells_of(len(square)):
+        entry = (row, column, square[row][column])
+        told[entry[roles[0]], entry[roles[1]]] = entry[roles[2]]
+    return tuple(tuple(told[row, column] for column in range(len(square))) for row in range(len(square)))
+
+
+@functools.cache
+def plain_form(square):
+    """The least of all with any row first, the columns in any order, that row's things named in order and the rows
+    in order: no other renamed one is less than the least of these."""
+    best = None
+    for top in square:
+        for columns in turns(len(square)):
+            names = {top[column]: place for place, column in enumerate(columns)}
+            told = tuple(sorted(tuple(names[line[column]] for column in columns) for line in square))
+            best = told if best is None or told < best else best
+    return best
+
+
+@functools.cache
+def plain_own(square):
+    """From each row that the first one may become and each turn of the columns the rest is settled."""
+    found = []
+    places = {line: row for row, line in enumerate(square)}
+    for aim in square:
+        for columns in turns(len(square)):
+            things = {thing: aim[column] for thing, column in zip(square[0], columns)}
+            back = [columns.index(place) for place in range(len(columns))]
+            lines = [tuple(things[line[column]] for column in back) for line in square]
+            if all(line in places for line in lines):
+                rows = tuple(places[line] for line in lines)
+                found.append((rows, columns, tuple(things[thing] for thing in range(len(square)))))
+    return tuple(sorted(found))
+
+
+def plain_rings(square, one, other):
+    """By a look, from each column, for the next one."""
+    onward = {}
+    for column, onto in cells_of(len(square)):
+        if square[one][onto] == square[other][column]:
+            onward[column] = onto
+    found = []
+    for column in range(len(square)):
+        ring = [column]
+        while onward[ring[-1]] != column:
+            ring.append(onward[ring[-1]])
+        if column == min(ring):
+            found.append(ring)
+    return found
+
+
+def plain_exchanged(square, one, other, column):
+    ring = [ring for ring in plain_rings(square, one, other) if column in ring][0]
+    rows = [list(line) for line in square]
+    for place in ring:
+        rows[one][place] = square[other][place]
+        rows[other][place] = square[one][place]
+    return tuple(tuple(line) for line in rows)
+
+
+def wandered(square, numbers, steps):
+    """The square exchanged along rings, and turned by roles now and then, so many times."""
+    for step in range(steps):
+        one, other = numbers.mixed(range(len(square)))[:2]
+        square = plain_exchanged(square, one, other, numbers.below(len(square)))
+        if numbers.below(3) == 0:
+            square = plain_turned(square, TURNS_OF_THREE[numbers.below(6)])
+    return square
+
+
+@functools.cache
+def exchanged_tables():
+    """Squares of size 6: tables, which have many own renamings, and what few and many exchanges make of them."""
+    numbers = Numbers(13)
+    found = [cyclic(6), TABLE_OF_TURNS, WITHOUT_PARTS_OF_TWO]
+    for table in (cyclic(6), TABLE_OF_TURNS):
+        found += [wandered(table, numbers, steps) for steps in (1, 1, 2, 2, 3, 4, 5, 7, 9, 12)]
+    return tuple(found)
+
+
+# One line of six rows for each: the plain forms of all squares of size 6, in their order.
+FORMS_OF_SIX = tuple(tuple(tuple(int(sign) for sign in row) for row in form.split()) for form in (
+    "012345 103254 234501 325410 450123 541032",
+    "012345 103254 234501 325410 450132 541023",
+    "012345 103254 234501 345012 450123 521430",
+    "012345 103254 234501 345120 451032 520413",
+    "012345 103254 240513 351402 425031 534120",
+    "012345 103254 240513 351402 425130 534021",
+    "012345 103254 240513 351420 435102 524031",
+    "012345 103254 240513 354021 435102 521430",
+    "012345 103254 240531 351420 425103 534012",
+    "012345 103254 240531 354012 425103 531420",
+    "012345 103254 240531 354012 435120 521403",
+    "012345 103254 240531 354102 425013 531420",
+    "012345 103452 230514 345021 451203 524130",
+    "012345 103452 230514 345021 451230 524103",
+    "012345 103452 231504 345120 450231 524013",
+    "012345 103452 231504 354120 425013 540231",
+    "012345 103452 234501 325014 450123 541230",
+    "012345 103452 234501 325014 451230 540123",
+    "012345 103452 234501 345210 450123 521034",
+    "012345 103452 234510 351024 425103 540231",
+    "012345 103452 240531 351024 425103 534210",
+    "012345 120453 201534 354102 435210 543021",
+))

@@ -4,34 +4,14 @@ import unittest
 
 from latinclose.begun import check
 from latinclose.renamings import behind, renamed, still, undone
-from samples import Numbers, all_squares, begun_squares, cells_of, cyclic, empty, is_square, squares
-
-
-def turns(size):
-    return list(itertools.permutations(range(size)))
-
-
-def all_renamings(size):
-    return list(itertools.product(turns(size), repeat=3))
-
-
-def some_renamings(size, many, state):
-    numbers = Numbers(state)
-    return [tuple(tuple(numbers.mixed(range(size))) for part in range(3)) for turn in range(many)]
+from samples import (
+    all_renamings, all_squares, begun_squares, cells_of, cyclic, empty, is_renaming, is_square, plain_renamed,
+    some_renamings, squares,
+)
 
 
 def renamings(size, many, state):
     return all_renamings(size) if size < 3 else some_renamings(size, many, state)
-
-
-def plain_renamed(begun, renaming):
-    """Cell by cell, each entry set where the renaming sends it."""
-    rows, columns, things = renaming
-    told = [[None] * len(begun) for row in begun]
-    for row, column in cells_of(len(begun)):
-        thing = begun[row][column]
-        told[rows[row]][columns[column]] = None if thing is None else things[thing]
-    return tuple(tuple(line) for line in told)
 
 
 def many_begun_squares():
@@ -97,15 +77,6 @@ class Renamed(unittest.TestCase):
 
 
 class RenamingsOfRenamings(unittest.TestCase):
-    def is_renaming(self, told, size):
-        self.assertIs(told.__class__, tuple)
-        self.assertEqual(len(told), 3)
-        for turn in told:
-            self.assertIs(turn.__class__, tuple)
-            self.assertEqual(sorted(turn), list(range(size)))
-            for number in turn:
-                self.assertIs(number.__class__, int)
-
     def pairs(self, size):
         if size < 3:
             return list(itertools.product(all_renamings(size), repeat=2))
@@ -116,7 +87,7 @@ class RenamingsOfRenamings(unittest.TestCase):
             for one, other in self.pairs(size):
                 kept = copy.deepcopy((one, other))
                 both = behind(one, other)
-                self.is_renaming(both, size)
+                self.assertTrue(is_renaming(both, size))
                 for place in range(3):
                     self.assertEqual(both[place], tuple(other[place][one[place][k]] for k in range(size)))
                 self.assertEqual(behind(one, other), both)
@@ -149,7 +120,7 @@ class RenamingsOfRenamings(unittest.TestCase):
             for renaming in renamings(size, 60, 47):
                 kept = copy.deepcopy(renaming)
                 back = undone(renaming)
-                self.is_renaming(back, size)
+                self.assertTrue(is_renaming(back, size))
                 self.assertEqual(behind(renaming, back), still(size))
                 self.assertEqual(behind(back, renaming), still(size))
                 self.assertEqual(undone(back), renaming)
@@ -167,7 +138,7 @@ class RenamingsOfRenamings(unittest.TestCase):
         for begun in many_begun_squares():
             self.assertEqual(renamed(begun, still(len(begun))), begun)
         for size in range(1, 9):
-            self.is_renaming(still(size), size)
+            self.assertTrue(is_renaming(still(size), size))
             self.assertEqual(still(size), (tuple(range(size)),) * 3)
             self.assertEqual(undone(still(size)), still(size))
         for size in range(1, 7):

@@ -3,37 +3,12 @@ import itertools
 import unittest
 
 from latinclose.rings import exchanged, rings
-from samples import WITHOUT_PARTS_OF_TWO, cells_of, cyclic, is_square, paired_table, squares
+from samples import WITHOUT_PARTS_OF_TWO, cyclic, is_square, paired_table, plain_exchanged, plain_rings, squares
 
 
 def two_rows(square):
     """All two unlike rows, either way about."""
     return list(itertools.permutations(range(len(square)), 2))
-
-
-def plain_rings(square, one, other):
-    """By a look, from each column, for the next one."""
-    onward = {}
-    for column, onto in cells_of(len(square)):
-        if square[one][onto] == square[other][column]:
-            onward[column] = onto
-    found = []
-    for column in range(len(square)):
-        ring = [column]
-        while onward[ring[-1]] != column:
-            ring.append(onward[ring[-1]])
-        if column == min(ring):
-            found.append(ring)
-    return found
-
-
-def plain_exchanged(square, one, other, column):
-    ring = [ring for ring in plain_rings(square, one, other) if column in ring][0]
-    rows = [list(line) for line in square]
-    for place in ring:
-        rows[one][place] = square[other][place]
-        rows[other][place] = square[one][place]
-    return tuple(tuple(line) for line in rows)
 
 
 class Rings(unittest.TestCase):
